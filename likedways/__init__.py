@@ -1,0 +1,1 @@
+"""Likedways: houses that tell their ways, each liking as it will."""

@@ -1,0 +1,145 @@
+"""Rules of the language of the package that can be seen in its files, by their numbers."""
+
+import ast
+import builtins
+import pathlib
+import re
+import unittest
+import warnings
+
+PACKAGE = pathlib.Path(__file__).resolve().parent.parent / "likedways"
+FILES = sorted(PACKAGE.rglob("*.py"))
+ALLOWED_BUILTINS = set(
+    "len range enumerate zip min max sum abs sorted reversed int str bool bytes list tuple dict set frozenset "
+    "isinstance ord repr any all divmod super object float property staticmethod classmethod "
+    "Exception ValueError TypeError KeyError IndexError LookupError ZeroDivisionError ArithmeticError OverflowError "
+    "RuntimeError NotImplementedError AttributeError StopIteration NotImplemented".split()
+)
+BARRED_WORDS = (
+    "type typing typing_extensions enum Enum IntEnum StrEnum Flag IntFlag Generic Protocol ABC ABCMeta namedtuple "
+    "NamedTuple TypedDict TYPE_CHECKING abstractmethod"
+).split()
+BARRED_NAMES = set(
+    "register mro elements open input version_info with_traceback add_note format format_map".split()
+)
+DUNDERS = re.compile(r"__[a-z]+__\Z")
+
+
+def trees():
+    for file in FILES:
+        yield file, ast.parse(file.read_text(encoding="utf-8"))
+
+
+def nodes(kind):
+    for file, tree in trees():
+        for node in ast.walk(tree):
+            if isinstance(node, kind):
+                yield file, node
+
+
+def bound_names(tree):
+    for node in ast.walk(tree):
+        if isinstance(node, ast.Name) and isinstance(node.ctx, ast.Store):
+            yield node.id
+        elif isinstance(node, ast.arg):
+            yield node.arg
+        elif isinstance(node, (ast.FunctionDef, ast.ClassDef)):
+            yield node.name
+        elif isinstance(node, ast.alias):
+            yield node.asname or node.name
+        elif isinstance(node, ast.Attribute):
+            yield node.attr
+
+
+class TestLanguage(unittest.TestCase):
+    def test_files(self):
+        """L1, L14: lower-case plain names, nothing but Python files."""
+        names = {file.relative_to(PACKAGE).as_posix() for file in FILES}
+        self.assertIn("__init__.py", names)
+        for path in PACKAGE.rglob("*"):
+            if "__pycache__" not in path.parts:
+                self.assertRegex(path.name, r"\A[a-z0-9_]+\.py\Z")
+                self.assertNotRegex(path.name, r"\A(test|law_|site|conftest)")
+
+    def test_signs_and_sizes(self):
+        """L10, L14."""
+        for file in FILES:
+            text = file.read_text(encoding="utf-8")
+            self.assertRegex(text, r"\A[ -~\n]*\Z", file.name)
+            self.assertLessEqual(len(text.splitlines()), 400, file.name)
+            self.assertLessEqual(max(map(len, text.splitlines())), 120, file.name)
+        for file, node in nodes(ast.FunctionDef):
+            self.assertLessEqual(node.end_lineno - node.lineno + 1, 40, (file.name, node.name))
+
+    def test_words(self):
+        """L17: words that stand nowhere, not even in comments."""
+        for file in FILES:
+            text = file.read_text(encoding="utf-8")
+            for word in BARRED_WORDS:
+                self.assertNotRegex(text, rf"\b{word}\b", file.name)
+            for part in ("dataclass", "overload", "contextmanager"):
+                self.assertNotIn(part, text, file.name)
+
+    def test_imports(self):
+        """L2, L16: by full names, from the file that defines the name, at the top."""
+        self.assertEqual([], [node.lineno for _, node in nodes(ast.Import)])
+        for file, node in nodes(ast.ImportFrom):
+            self.assertEqual(node.level, 0, file.name)
+            if node.module == "__future__":
+                continue
+            self.assertRegex(node.module, r"\Alikedways\.[a-z0-9_]+\Z", file.name)
+            source = ast.parse((PACKAGE / (node.module.split(".")[1] + ".py")).read_text(encoding="utf-8"))
+            defined = {one.name for one in source.body if isinstance(one, (ast.FunctionDef, ast.ClassDef))}
+            defined |= {
+                name.id for one in source.body if isinstance(one, ast.Assign) for name in one.targets
+            }
+            for alias in node.names:
+                self.assertIn(alias.name, defined, file.name)
+                self.assertIsNone(alias.asname)
+
+    def test_names(self):
+        """L8, L12, L15, L17."""
+        for file, tree in trees():
+            for name in bound_names(tree):
+                self.assertNotIn(name, BARRED_NAMES, file.name)
+                if not DUNDERS.match(name):
+                    self.assertFalse(name.startswith("_"), (file.name, name))
+            stored = [
+                node.id for node in ast.walk(tree) if isinstance(node, ast.Name) and isinstance(node.ctx, ast.Store)
+            ] + [node.arg for node in ast.walk(tree) if isinstance(node, ast.arg)]
+            for name in stored:
+                self.assertFalse(hasattr(builtins, name), (file.name, name))
+
+    def test_builtins(self):
+        """L8: only the listed ones are read."""
+        for file, node in nodes(ast.Name):
+            if isinstance(node.ctx, ast.Load) and hasattr(builtins, node.id):
+                self.assertIn(node.id, ALLOWED_BUILTINS, (file.name, node.lineno))
+
+    def test_values(self):
+        """L7, L27: no float, no complex number, no division, no percent sign in a string."""
+        for file, node in nodes(ast.Constant):
+            self.assertNotIsInstance(node.value, (float, complex), file.name)
+            if isinstance(node.value, str):
+                self.assertNotIn("%", node.value, file.name)
+        for file, node in nodes((ast.BinOp, ast.AugAssign)):
+            self.assertNotIsInstance(node.op, (ast.Div, ast.MatMult), (file.name, node.lineno))
+
+    def test_identity(self):
+        """L20: `is` only beside None, True and False."""
+        for file, node in nodes(ast.Compare):
+            for op, right in zip(node.ops, node.comparators):
+                if isinstance(op, (ast.Is, ast.IsNot)):
+                    self.assertIsInstance(right, ast.Constant, (file.name, node.lineno))
+                    self.assertIn(right.value, (None, True, False))
+
+    def test_no_warnings(self):
+        """L27: no line for which Python itself gives a warning."""
+        with warnings.catch_warnings():
+            warnings.simplefilter("error")
+            for file in FILES:
+                compile(file.read_text(encoding="utf-8"), file.name, "exec")
+
+
+if __name__ == "__main__":
+    unittest.main()
