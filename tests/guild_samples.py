@@ -1,6 +1,7 @@
 """Guilds that several tests ask about."""
 
 from itertools import combinations, permutations
+from random import Random
 
 ALONE = (2, (), ((),))
 PAIR = (2, ((0, 1),), (((1, 0),),))
@@ -44,3 +45,78 @@ def ways_of(house, many, roads):
         for middle in permutations(between, size)
     ]
     return [row for row in rows if all(frozenset(step) in joined for step in zip(row, row[1:]))]
+
+
+def circle(size):
+    """Houses in a circle round the hall; each likes the way over the next one best, then its own road."""
+    houses = range(1, size + 1)
+    after = {house: house % size + 1 for house in houses}
+    roads = {(0, house) for house in houses} | {tuple(sorted((house, after[house]))) for house in houses}
+    likes = tuple(((house, after[house], 0), (house, 0)) for house in houses)
+    return (size + 1, tuple(sorted(roads)), likes)
+
+
+THREE_MINDS = circle(3)
+FOUR_MINDS = circle(4)
+FIVE_MINDS = circle(5)
+SIX_MINDS = circle(6)
+# As TWO_MINDS, but house 1 likes the way over house 3 best, and that is always there once house 3 has had a turn.
+CALMED = (
+    4,
+    ((0, 1), (0, 2), (0, 3), (1, 2), (1, 3)),
+    (((1, 3, 0), (1, 2, 0), (1, 0)), ((2, 1, 0), (2, 0)), ((3, 0),)),
+)
+# TWO_MINDS twice, side by side.
+TWICE_TWO_MINDS = (
+    5,
+    ((0, 1), (0, 2), (0, 3), (0, 4), (1, 2), (3, 4)),
+    (
+        ((1, 2, 0), (1, 0)), ((2, 1, 0), (2, 0)),
+        ((3, 4, 0), (3, 0)), ((4, 3, 0), (4, 0)),
+    ),
+)
+# The second spoke lies two houses behind the first whole one's beginning.
+FAR_SPOKE = (
+    4,
+    ((0, 1), (0, 3), (1, 2), (1, 3), (2, 3)),
+    (((1, 2, 3, 0), (1, 0)), (), ((3, 1, 0), (3, 0))),
+)
+# A chain: each house waits for the one before it.
+CHAIN = (
+    7,
+    tuple((house, house + 1) for house in range(6)),
+    tuple((tuple(range(house, -1, -1)),) for house in range(1, 7)),
+)
+# Two rings, of three and of two pairs, that share no house.
+TWO_RINGS = (
+    6,
+    ((0, 1), (0, 2), (0, 3), (0, 4), (0, 5), (1, 2), (1, 3), (2, 3), (4, 5)),
+    (
+        ((1, 2, 0), (1, 0)), ((2, 3, 0), (2, 0)), ((3, 1, 0), (3, 0)),
+        ((4, 5, 0), (4, 0)), ((5, 4, 0), (5, 0)),
+    ),
+)
+NO_LIKES = (3, ((0, 1), (0, 2), (1, 2)), ((), ()))
+WITH_ORDER = (ALONE, PAIR, SEVEN, SEVEN_BARE, SEVEN_NO_LIKES, LONG_WAYS, SQUARE, CHAIN, NO_LIKES)
+WITH_RING = (
+    TWO_MINDS, THREE_MINDS, FOUR_MINDS, FIVE_MINDS, SIX_MINDS, CALMED, TWICE_TWO_MINDS, FAR_SPOKE, TWO_RINGS,
+)
+ALL_SAMPLES = WITH_ORDER + WITH_RING
+
+
+def random_guild(chance, many, liked):
+    """A guild of so many houses that each like at most so many ways, as chance has it."""
+    roads = tuple(road for road in combinations(range(many), 2) if chance.random() < 0.8)
+    likes = []
+    for house in range(1, many):
+        ways = ways_of(house, many, roads)
+        size = min(len(ways), chance.randint(0, liked))
+        # Mostly short ways, since hardly any stand has the rest of a long one.
+        near = sorted(ways, key=lambda way: len(way) + 2 * chance.random())[:size + 2]
+        likes.append(tuple(chance.sample(near, size)))
+    return (many, roads, tuple(likes))
+
+
+def random_guilds(seed, count, sizes, liked):
+    chance = Random(seed)
+    return [random_guild(chance, chance.choice(sizes), liked) for _ in range(count)]

@@ -6,27 +6,7 @@ from itertools import combinations, product
 
 from guild_samples import ALL_ROADS, ALONE, GUILDS, PAIR, SEVEN, SQUARE, TWO_MINDS, ways_of
 from likedways.guilds import is_guild
-
-HUGE = 10 ** 39
-ODD_THINGS = (
-    None, True, False, 0, 1, 2, 3, -1, HUGE, -HUGE, "", "0", "guild", "x" * 4000, "a\nb",
-    (), [], (0,), [0], (0, 1), [1, 0], ((),), [[]], ((1, 0),), [(0, 1)], (None,), ("",), (True,),
-    (0, None), (None, 0), ("0", "1"), ((), (), ()), (0, (1,)), ((0,), 1), ([], ()), (0, 1, 2), (HUGE, HUGE),
-)
-
-
-def deep(many, kind):
-    thing = kind()
-    for _ in range(many - 1):
-        thing = kind([thing])
-    return thing
-
-
-DEEP_THINGS = tuple(deep(many, kind) for many in (2, 9, 40) for kind in (list, tuple))
-
-
-def with_place(thing, at, other):
-    return thing[:at] + (other,) + thing[at + 1:]
+from odd_things import DEEP_THINGS, HUGE, ODD_THINGS, deep, with_place
 
 
 class TestIsGuild(unittest.TestCase):

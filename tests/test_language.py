@@ -23,6 +23,19 @@ BARRED_NAMES = set(
     "register mro elements open input version_info with_traceback add_note format format_map".split()
 )
 DUNDERS = re.compile(r"__[a-z]+__\Z")
+BUILTIN_METHODS = set(
+    "append clear copy count endswith extend find get index insert isalnum isalpha isdigit islower isspace isupper "
+    "items join keys ljust lower lstrip partition pop remove replace reverse rfind rjust rpartition rsplit rstrip "
+    "setdefault split splitlines startswith strip update upper values zfill bit_length title capitalize swapcase "
+    "casefold center expandtabs removeprefix removesuffix rindex isascii isdecimal isnumeric istitle isidentifier "
+    "isprintable add discard __init__".split()
+)
+BARRED_STATEMENTS = (
+    ast.Global, ast.AsyncFunctionDef, ast.AsyncFor, ast.AsyncWith, ast.Await, ast.GeneratorExp, ast.Yield,
+    ast.YieldFrom, ast.NamedExpr,
+)
+ITERATED = ("zip", "enumerate", "reversed", "range")
+ITERATES = ("list", "tuple", "dict", "sorted", "sum", "any", "all", "enumerate", "zip", "bytes", "min", "max")
 
 
 def trees():
@@ -109,6 +122,63 @@ class TestLanguage(unittest.TestCase):
             ] + [node.arg for node in ast.walk(tree) if isinstance(node, ast.arg)]
             for name in stored:
                 self.assertFalse(hasattr(builtins, name), (file.name, name))
+
+    def test_bound_once(self):
+        """L15: each name of a module is bound once, and nothing within has the name of an import or a class."""
+        for file, tree in trees():
+            imports = [one.asname or one.name for node in tree.body if isinstance(node, ast.ImportFrom)
+                       for one in node.names]
+            classes = [node.name for node in tree.body if isinstance(node, ast.ClassDef)]
+            functions = [node.name for node in tree.body if isinstance(node, ast.FunctionDef)]
+            values = [name.id for node in tree.body if isinstance(node, ast.Assign) for name in node.targets]
+            names = imports + classes + functions + values
+            self.assertEqual(sorted(set(names)), sorted(names), file.name)
+            for function in [node for node in ast.walk(tree) if isinstance(node, ast.FunctionDef)]:
+                inner = {node.id for node in ast.walk(function)
+                         if isinstance(node, ast.Name) and isinstance(node.ctx, ast.Store)}
+                inner |= {node.arg for node in ast.walk(function) if isinstance(node, ast.arg)}
+                self.assertEqual(inner & set(imports + classes + functions), set(), (file.name, function.name))
+
+    def test_imports_are_used_and_go_one_way(self):
+        """L16: no two files import from each other, neither directly nor through others."""
+        sources = {}
+        for file, tree in trees():
+            nodes_here = [node for node in tree.body if isinstance(node, ast.ImportFrom)]
+            sources[file.stem] = {node.module.split(".")[-1] for node in nodes_here}
+            read = {node.id for node in ast.walk(tree) if isinstance(node, ast.Name)}
+            for node in nodes_here:
+                for one in node.names:
+                    self.assertIn(one.name, read, file.name)
+        left = dict(sources)
+        while left:
+            free = [name for name in left if not left[name] & set(left)]
+            self.assertTrue(free, sorted(left))
+            left = {name: left[name] for name in left if name not in free}
+
+    def test_statements(self):
+        """L6, L7: nothing barred; where a class has its own equality `any` and the like take lists, so all do."""
+        for file, node in nodes(BARRED_STATEMENTS):
+            self.fail((file.name, node.lineno))
+
+    def test_methods(self):
+        """L25, L26: methods of builtin values are the listed ones; all others are the package's own."""
+        own = {node.name for _, one in nodes(ast.ClassDef) for node in one.body if isinstance(node, ast.FunctionDef)}
+        for file, node in nodes(ast.Call):
+            if isinstance(node.func, ast.Attribute):
+                self.assertIn(node.func.attr, BUILTIN_METHODS | own, (file.name, node.lineno))
+
+    def test_iterated_at_once(self):
+        """L23: what zip, range and the like give is iterated where it stands."""
+        for file, tree in trees():
+            good = set()
+            for node in ast.walk(tree):
+                if isinstance(node, (ast.For, ast.comprehension)):
+                    good.add(id(node.iter))
+                elif isinstance(node, ast.Call) and isinstance(node.func, ast.Name) and node.func.id in ITERATES:
+                    good |= {id(one) for one in node.args}
+            for node in ast.walk(tree):
+                if isinstance(node, ast.Call) and isinstance(node.func, ast.Name) and node.func.id in ITERATED:
+                    self.assertIn(id(node), good, (file.name, node.lineno))
 
     def test_builtins(self):
         """L8: only the listed ones are read."""
