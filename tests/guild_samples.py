@@ -102,6 +102,26 @@ WITH_RING = (
     TWO_MINDS, THREE_MINDS, FOUR_MINDS, FIVE_MINDS, SIX_MINDS, CALMED, TWICE_TWO_MINDS, FAR_SPOKE, TWO_RINGS,
 )
 ALL_SAMPLES = WITH_ORDER + WITH_RING
+# TWO_MINDS three times, side by side: 7 stands for each, which makes 343; with seven houses.
+THRICE_TWO_MINDS = (
+    7,
+    ((0, 1), (0, 2), (0, 3), (0, 4), (0, 5), (0, 6), (1, 2), (3, 4), (5, 6)),
+    tuple(((house, other, 0), (house, 0)) for house, other in ((1, 2), (2, 1), (3, 4), (4, 3), (5, 6), (6, 5))),
+)
+# Each house likes to go over each other one better than its own road; the stands are more than a thousand.
+MANY = (
+    7, ALL_ROADS,
+    tuple(
+        tuple((house, (house + step - 1) % 6 + 1, 0) for step in (1, 2, 3, 4, 5)) + ((house, 0),)
+        for house in range(1, 7)
+    ),
+)
+
+# Each house likes to go over a lesser one better than its own road: an order, and 1957 stands.
+STAIRS = (
+    7, ALL_ROADS,
+    tuple(tuple((house, other, 0) for other in range(1, house)) + ((house, 0),) for house in range(1, 7)),
+)
 
 
 def random_guild(chance, many, liked):
@@ -120,3 +140,12 @@ def random_guild(chance, many, liked):
 def random_guilds(seed, count, sizes, liked):
     chance = Random(seed)
     return [random_guild(chance, chance.choice(sizes), liked) for _ in range(count)]
+
+
+def full_guild(chance):
+    """A guild of seven houses with all roads that each like six ways, mostly short ones."""
+    likes = []
+    for house in range(1, 7):
+        near = sorted(ways_of(house, 7, ALL_ROADS), key=lambda way: len(way) + 2 * chance.random())[:8]
+        likes.append(tuple(chance.sample(near, 6)))
+    return (7, ALL_ROADS, tuple(likes))

@@ -107,3 +107,103 @@ def plain_rings(guild):
             row + [pair] for pair in pairs if pair[0] not in spokes and plain_is_end(pair[0], row[-1][1])
         ]
     return rings
+
+
+def plain_grown(guild, order):
+    ways = {0: (0,)}
+    for way in order:
+        if way[0] not in ways and ways.get(way[1]) == way[1:]:
+            ways[way[0]] = way
+    return tuple(ways.get(house, ()) for house in range(guild[0]))
+
+
+def plain_passed_over(guild, stand, house):
+    rows = []
+    for way in guild[2][house - 1]:
+        if way == stand[house]:
+            break
+        at = len(way) - 1
+        while stand[way[at]] == way[at:]:
+            at -= 1
+        rows.append((way, way[at]))
+    return rows
+
+
+def plain_reached(guild):
+    """All reached stands, or None where they are more than a thousand."""
+    found = {plain_first(guild)}
+    new = set(found)
+    while new and len(found) <= 1000:
+        new = {plain_made(guild, stand, turn) for stand in new for turn in plain_turns(guild)} - found
+        found |= new
+    return sorted(found) if len(found) <= 1000 else None
+
+
+def plain_is_endless(guild, lead, around):
+    """Of two lists of turns."""
+    begin = plain_led(guild, plain_first(guild), lead)[-1]
+    if plain_steady(guild, begin) or plain_led(guild, begin, around)[-1] != begin:
+        return False
+    return {house for turn in around for house in turn} == set(range(1, guild[0]))
+
+
+def plain_is_calm(guild, rows):
+    """Of a list of tuples (stand, rank, house), each of them good for itself."""
+    stands = [stand for stand, _, _ in rows]
+    if plain_first(guild) not in stands or stands != sorted(set(stands)):
+        return False
+    for (_, rank, house), (_, other_rank, other_house) in combinations(rows, 2):
+        if rank == other_rank and house != other_house:
+            return False
+    ranks = {stand: rank for stand, rank, _ in rows}
+    for stand, rank, house in rows:
+        if plain_steady(guild, stand):
+            continue
+        for turn in plain_turns(guild):
+            to = ranks.get(plain_made(guild, stand, turn))
+            if to is None or not (to < rank or to == rank and house not in turn):
+                return False
+    return True
+
+
+def plain_can_go_on(guild):
+    """Whether some fair run never rests: whether from some reached stand one comes back over all houses."""
+    every = frozenset(range(1, guild[0]))
+    turns = plain_turns(guild)
+    stands = plain_reached(guild)
+    steps = {stand: {(plain_made(guild, stand, turn), turn) for turn in turns} for stand in stands}
+    for begin in stands:
+        if plain_steady(guild, begin):
+            continue
+        seen = {(begin, frozenset())}
+        new = list(seen)
+        while new:
+            stand, houses = new.pop()
+            for behind, turn in steps[stand]:
+                state = (behind, houses | set(turn))
+                if state not in seen:
+                    seen.add(state)
+                    new.append(state)
+        if (begin, every) in seen:
+            return True
+    return False
+
+
+def plain_tally(guild):
+    """For each reached stand the most changes, of a guild with an order; by going on until nothing grows."""
+    stands = plain_reached(guild)
+    turns = plain_turns(guild)
+    counts = dict.fromkeys(stands, 0)
+    steps = []
+    for stand in stands:
+        for turn in turns:
+            behind = plain_made(guild, stand, turn)
+            steps.append((stand, sum(one != other for one, other in zip(stand, behind)), behind))
+    grows = True
+    while grows:
+        grows = False
+        for stand, count, behind in steps:
+            if count + counts[behind] > counts[stand]:
+                counts[stand] = count + counts[behind]
+                grows = True
+    return sorted(counts.items())

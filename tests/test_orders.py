@@ -7,7 +7,8 @@ from random import Random
 
 from guild_samples import (
     ALL_SAMPLES, ALONE, CALMED, CHAIN, FAR_SPOKE, FIVE_MINDS, FOUR_MINDS, NO_LIKES, PAIR, SEVEN, SEVEN_BARE, SIX_MINDS,
-    SQUARE, THREE_MINDS, TWICE_TWO_MINDS, TWO_MINDS, TWO_RINGS, WITH_ORDER, WITH_RING, random_guild, random_guilds,
+    SQUARE, THREE_MINDS, TWICE_TWO_MINDS, TWO_MINDS, TWO_RINGS, WITH_ORDER, WITH_RING, full_guild, random_guild,
+    random_guilds,
 )
 from likedways.errors import NoOrder, WayError
 from likedways.guilds import dropped, without
@@ -328,8 +329,7 @@ class TestOrderOrRing(Orders):
         kinds = {self.told(guild) for guild in LARGE}
         self.assertEqual(kinds, {"order", "ring"})
         chance = Random(94)
-        for _ in range(20):
-            guild = random_guild(chance, 7, 6)
+        for guild in [random_guild(chance, 7, 6) for _ in range(20)] + [full_guild(chance) for _ in range(20)]:
             self.assertEqual(self.told(guild) == "order", ways_in_a_row(guild) is not None)
 
     def test_order_stays_whatever_is_taken_away(self):

@@ -1,12 +1,14 @@
 """Point 6: stands, choices, turns and steady stands; and point 2 as far as it speaks of these."""
 
 import copy
+import time
 import unittest
 from itertools import product
+from random import Random
 
 from guild_samples import (
     ALL_SAMPLES, ALONE, CALMED, CHAIN, LONG_WAYS, NO_LIKES, PAIR, SEVEN, SEVEN_NO_LIKES, SQUARE,
-    THREE_MINDS, TWICE_TWO_MINDS, TWO_MINDS, random_guilds,
+    THREE_MINDS, TWICE_TWO_MINDS, TWO_MINDS, full_guild, random_guilds,
 )
 from likedways.guilds import dropped
 from likedways.stands import choice, first_stand, is_stand, is_steady, made, steady_stands
@@ -268,9 +270,20 @@ class TestSteadyStands(unittest.TestCase):
             counts.add(len(right))
         self.assertLessEqual({0, 1, 2}, counts)
 
-    def test_seven_houses_with_six_ways(self):
-        for guild in random_guilds(62, 3, (6, 7), 6):
+    def test_seven_houses(self):
+        for guild in random_guilds(62, 6, (6, 7), 5):
             self.assertEqual(steady_stands(guild), plain_steady_stands(guild))
+
+    def test_seven_houses_with_six_ways(self):
+        chance = Random(63)
+        guild = full_guild(chance)
+        self.assertEqual(len(plain_stands(guild)), 7 ** 6)
+        self.assertEqual(steady_stands(guild), plain_steady_stands(guild))
+        began = time.perf_counter()
+        for _ in range(10):
+            for stand in steady_stands(full_guild(chance)):
+                self.assertEqual(len(stand), 7)
+        self.assertLess(time.perf_counter() - began, 20)
 
     def test_new_list_each_time(self):
         for guild in (TWO_MINDS, THREE_MINDS, SEVEN):
