@@ -19,9 +19,19 @@ def are_unlike(things):
     return len(set(things)) == len(things)
 
 
+def is_many(thing):
+    """Whether there can be so many houses, of anything."""
+    return is_whole(thing) and 2 <= thing <= HOUSES
+
+
+def is_house(thing, many):
+    """Whether it is one of so many houses, of anything."""
+    return is_whole(thing) and 0 <= thing < many
+
+
 def are_houses(thing, many):
     """Whether it is a tuple of houses of so many."""
-    return isinstance(thing, tuple) and all([is_whole(one) and 0 <= one < many for one in thing])
+    return isinstance(thing, tuple) and all([is_house(one, many) for one in thing])
 
 
 def is_pair(thing, many):
@@ -67,14 +77,24 @@ def are_likes(thing, many, roads):
     return all([are_liked(liked, house, many, roads) for house, liked in enumerate(thing, start=1)])
 
 
+def all_ways(house, many, roads):
+    """All ways of the house to the hall, the shorter ones first."""
+    found = []
+    begun = [(house,)]
+    while begun:
+        longer = [(*row, other) for row in begun for other in range(many) if other not in row]
+        joined = [row for row in longer if road_between(row[-2], row[-1]) in roads]
+        found = found + [row for row in joined if row[-1] == 0]
+        begun = [row for row in joined if row[-1] != 0]
+    return found
+
+
 def is_guild(thing):
     """Whether it is a guild, of anything."""
     if not isinstance(thing, tuple) or len(thing) != 3:
         return False
     many, roads, likes = thing
-    if not is_whole(many) or not 2 <= many <= HOUSES:
-        return False
-    return are_roads(roads, many) and are_likes(likes, many, roads)
+    return is_many(many) and are_roads(roads, many) and are_likes(likes, many, roads)
 
 
 def without(guild, roads):
