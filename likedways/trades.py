@@ -35,16 +35,21 @@ def is_trade(thing):
     return are_unlike(pairs_joined(sales, peers))
 
 
+def free_houses(trade, listed):
+    """The houses that aren't listed yet, though all that sell to them are, rising."""
+    many, sales, peers = trade
+    buying = [buyer for seller, buyer in sales if seller not in listed]
+    return [house for house in range(many) if house not in listed and house not in buying]
+
+
 def sellers_first(trade):
     """The first list of houses, each behind all that sell to it; only those that can be listed so."""
-    many, sales, peers = trade
     listed = []
-    free = [0]
+    free = free_houses(trade, listed)
     while free:
-        waiting = [buyer for seller, buyer in sales if seller not in listed]
-        free = [house for house in range(many) if house not in listed and house not in waiting]
         # The least one that is free, at each place, makes the first of all lists.
-        listed = listed + free[:1]
+        listed.append(free[0])
+        free = free_houses(trade, listed)
     return listed
 
 

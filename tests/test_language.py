@@ -34,6 +34,7 @@ BARRED_STATEMENTS = (
     ast.Global, ast.AsyncFunctionDef, ast.AsyncFor, ast.AsyncWith, ast.Await, ast.GeneratorExp, ast.Yield,
     ast.YieldFrom, ast.NamedExpr,
 )
+OWN_DUNDERS = set("__init__ __eq__ __repr__ __str__ __len__ __enter__ __exit__ __call__ __iter__".split())
 ITERATED = ("zip", "enumerate", "reversed", "range")
 ITERATES = ("list", "tuple", "dict", "sorted", "sum", "any", "all", "enumerate", "zip", "bytes", "min", "max")
 
@@ -166,6 +167,84 @@ class TestLanguage(unittest.TestCase):
         for file, node in nodes(ast.Call):
             if isinstance(node.func, ast.Attribute):
                 self.assertIn(node.func.attr, BUILTIN_METHODS | own, (file.name, node.lineno))
+
+    def test_classes(self):
+        """L5, L18: listed double-underscore methods; none defined twice; no name is a method here, an attribute there."""
+        methods, stored, read = set(), set(), set()
+        for file, one in nodes(ast.ClassDef):
+            names = [node.name for node in one.body if isinstance(node, ast.FunctionDef)]
+            self.assertEqual(len(set(names)), len(names), (file.name, one.name))
+            self.assertLessEqual({name for name in names if name.startswith("__")}, OWN_DUNDERS, file.name)
+            self.assertEqual(one.decorator_list, [])
+            methods |= set(names)
+        for file, node in nodes(ast.Attribute):
+            (stored if isinstance(node.ctx, ast.Store) else read).add(node.attr)
+            if isinstance(node.ctx, ast.Store):
+                self.assertIsInstance(node.value, ast.Name, (file.name, node.lineno))
+        self.assertEqual(methods & stored, set())
+        self.assertLessEqual(read, methods | stored | BUILTIN_METHODS)
+
+    def test_functions(self):
+        """L4, L5, L15: no decorators; classes and functions with docstrings at module level only, none nested."""
+        for file, tree in trees():
+            for node in ast.walk(tree):
+                if isinstance(node, (ast.FunctionDef, ast.ClassDef)):
+                    self.assertEqual(node.decorator_list, [], (file.name, node.lineno))
+                if isinstance(node, ast.FunctionDef):
+                    self.assertEqual(node.args.posonlyargs, [])
+                    inner = [one for one in ast.walk(node) if isinstance(one, (ast.FunctionDef, ast.ClassDef))]
+                    self.assertEqual(inner, [node], (file.name, node.lineno))
+
+    def test_errors(self):
+        """L19: errors are created where they are raised and caught by the names of own classes."""
+        own = {one.name for file, one in nodes(ast.ClassDef) if file.name == "errors.py"}
+        for file, node in nodes(ast.Raise):
+            if node.exc is not None:
+                self.assertIsInstance(node.exc, ast.Call, (file.name, node.lineno))
+                self.assertIn(node.exc.func.id, own, (file.name, node.lineno))
+                self.assertEqual(node.exc.keywords, [], (file.name, node.lineno))
+        for file, node in nodes(ast.ExceptHandler):
+            self.assertIsInstance(node.type, ast.Name, (file.name, node.lineno))
+            self.assertIn(node.type.id, own, (file.name, node.lineno))
+
+    def test_finally(self):
+        """L6: only plain statements, `append` and counting down."""
+        for file, node in nodes(ast.Try):
+            for one in node.finalbody:
+                where = (file.name, one.lineno)
+                self.assertIsInstance(one, (ast.Expr, ast.AugAssign), where)
+                if isinstance(one, ast.Expr):
+                    self.assertEqual(one.value.func.attr, "append", where)
+                else:
+                    self.assertIsInstance(one.op, ast.Sub, where)
+                    self.assertIsInstance(one.value, ast.Constant, where)
+
+    def test_told_by_double_underscore_methods(self):
+        """L28: what they return, and that they assign nothing."""
+        for file, node in nodes(ast.FunctionDef):
+            if node.name in ("__len__", "__str__", "__repr__"):
+                self.assertIsInstance(node.body[-1], ast.Return, (file.name, node.name))
+                called = {"__len__": "len", "__str__": "str", "__repr__": "repr"}[node.name]
+                for one in ast.walk(node):
+                    if isinstance(one, ast.Return):
+                        self.assertEqual(one.value.func.id, called, (file.name, node.name))
+            if node.name in ("__len__", "__str__", "__repr__", "__eq__"):
+                for one in ast.walk(node):
+                    self.assertNotIsInstance(one, (ast.Assign, ast.AugAssign, ast.Delete), (file.name, node.name))
+            if node.name == "__init__":
+                self.assertFalse([one for one in ast.walk(node) if isinstance(one, ast.Return)], file.name)
+
+    def test_sets(self):
+        """L24: `set(..)` only within `sorted` and `len`, and behind `in`; no set of its own kind elsewhere."""
+        for file, tree in trees():
+            good = set()
+            for node in ast.walk(tree):
+                if isinstance(node, ast.Call) and isinstance(node.func, ast.Name) and node.func.id in ("sorted", "len"):
+                    good |= {id(one) for one in node.args}
+            for node in ast.walk(tree):
+                if isinstance(node, ast.Call) and isinstance(node.func, ast.Name) and node.func.id in ("set", "frozenset"):
+                    self.assertIn(id(node), good, (file.name, node.lineno))
+                self.assertNotIsInstance(node, (ast.Set, ast.SetComp), file.name)
 
     def test_iterated_at_once(self):
         """L23: what zip, range and the like give is iterated where it stands."""
